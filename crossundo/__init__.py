@@ -1,0 +1,1 @@
+"""Crossundo: undo across documents."""
