@@ -1,9 +1,14 @@
-"""Objects and heaps that several tests use."""
+"""What several tests use: objects, heaps, and plain readings of the document to compare the package with."""
 
+import itertools
 import random
 import string
 
+from crossundo.errors import UndoError
+from crossundo.workspace import Workspace
+
 DOCUMENTS = ("a", "b", "c", "d", "e", "f", "g", "h")
+CHAIN = (("x", ("a", "b")), ("y", ("b", "c")), ("z", ("c",)))
 
 
 class Hostile:
@@ -60,3 +65,369 @@ def many_heaps():
         heaps.append(random_heap(seed, 40, documents=8, most=2))
         heaps.append(random_heap(seed, 40, documents=8, most=4))
     return heaps
+
+
+def all_small_heaps():
+    choices = [touched for size in (1, 2, 3) for touched in itertools.combinations("abc", size)]
+    for count in range(4):
+        for names in itertools.permutations("xyz"[:count]):
+            for touched in itertools.product(choices, repeat=count):
+                yield tuple(zip(names, touched))
+
+
+def pairs_below(heap):
+    """Return all pairs (x, y) with x below y, by the words of the definition."""
+    order = [name for name, _ in heap]
+    touched = dict(heap)
+    pairs = set()
+    for far in range(1, len(order)):
+        for at in range(len(order) - far):
+            first, last = order[at], order[at + far]
+            between = order[at + 1:at + far]
+            if set(touched[first]) & set(touched[last]):
+                pairs.add((first, last))
+            elif any((first, middle) in pairs and (middle, last) in pairs for middle in between):
+                pairs.add((first, last))
+    return pairs
+
+
+def normal_by_definition(heap):
+    pairs = pairs_below(heap)
+    touched = dict(heap)
+    remaining = set(touched)
+    ordered = []
+    while remaining:
+        least = min(name for name in remaining if not any((other, name) in pairs for other in remaining))
+        remaining.remove(least)
+        ordered.append((least, touched[least]))
+    return tuple(ordered)
+
+
+def cuts_by_definition(heap):
+    """Return all sets of names that contain, with each action, all actions below it."""
+    pairs = pairs_below(heap)
+    names = [name for name, _ in heap]
+    found = []
+    for size in range(len(names) + 1):
+        for chosen in itertools.combinations(names, size):
+            if all(x in chosen for x, y in pairs if y in chosen):
+                found.append(frozenset(chosen))
+    return found
+
+
+def strange_strings():
+    """Return strings that are no names."""
+    return ["", "abcdefghi", "A", "aB", "a1", "a\n", "\n", " a", "a b", "a%", "\0", "\u00e9", "\udc80", "x" * 500]
+
+
+def no_names():
+    """Return objects of many kinds that are no names."""
+    return [*other_kinds(), *strange_strings()]
+
+
+def told(call, *arguments, **named):
+    """Return what a call returns, or the name of the error that it raises with the values of its attributes."""
+    try:
+        return ("returned", call(*arguments, **named))
+    except UndoError as error:
+        return (type(error).__name__, *vars(error).values())
+
+
+def is_plain(value):
+    """Return whether a value and all that it contains is of the kinds that may be returned."""
+    if type(value) is tuple:
+        return all(is_plain(part) for part in value)
+    return value is None or type(value) in (int, str, bool)
+
+
+class Refused(Exception):
+    """What the model raises: the name of an error, and what it is about."""
+
+
+class Model:
+    """A workspace by the words of the document: contents are worked out anew from the first ones each time."""
+
+    def __init__(self):
+        self.first = {}
+        self.final = {}
+        self.saved = {}
+        self.opened = set()
+        self.edits = {}
+        self.order = []
+        self.done = set()
+        self.events = []
+
+    def told(self, method, *arguments):
+        try:
+            return ("returned", getattr(self, method)(*arguments))
+        except Refused as refused:
+            return refused.args
+
+    # What there is.
+
+    def touched(self, *names):
+        return {edit[0] for name in names for edit in self.edits[name]}
+
+    def listed(self, document):
+        return [name for name in self.order if document in self.touched(name)]
+
+    def heap(self):
+        return normal_by_definition(tuple((name, tuple(sorted(self.touched(name)))) for name in self.order))
+
+    def cut(self):
+        return tuple(sorted(self.done))
+
+    def documents(self):
+        return tuple(sorted(self.first))
+
+    def applied(self, document):
+        self.need_open(document)
+        return tuple(self.final[document] + [name for name in self.listed(document) if name in self.done])
+
+    def undone(self, document):
+        self.need_open(document)
+        return tuple(name for name in self.listed(document) if name not in self.done)
+
+    def content(self, document):
+        self.need_open(document)
+        text = self.first[document]
+        for name in self.applied(document):
+            for _, at, removed, inserted in [edit for edit in self.edits[name] if edit[0] == document]:
+                assert text[at:at + len(removed)] == removed
+                text = text[:at] + inserted + text[at + len(removed):]
+        return text
+
+    def is_clean(self, document):
+        return self.applied(document) == self.saved[document]
+
+    def edits_of(self, name):
+        self.need_action(name)
+        return self.edits[name]
+
+    def log(self):
+        return tuple(self.events)
+
+    def journal(self, document):
+        if document not in self.opened:
+            raise Refused("NoDocument", document)
+        counts = {}
+        rows = []
+        for event in self.events:
+            places = tuple((touched, counts.get(touched, 0)) for touched in event[2])
+            if document in event[2]:
+                rows.append((event, places))
+            counts.update({touched: counts.get(touched, 0) + 1 for touched in event[2]})
+        return tuple(rows)
+
+    def state(self):
+        documents = [(document, self.content(document), self.applied(document), self.saved[document])
+                     for document in self.documents()]
+        actions = [(name, self.edits[name], name in self.done) for name, _ in self.heap()]
+        return tuple(documents), tuple(actions), tuple(sorted(self.edits))
+
+    # What is worked out before a change.
+
+    def need_open(self, document):
+        if document not in self.first:
+            raise Refused("NoDocument", document)
+
+    def need_action(self, name):
+        if name not in self.order:
+            raise Refused("NoAction", name)
+
+    def sorted_names(self, names):
+        return tuple(name for name, _ in self.heap() if name in names)
+
+    def above(self, names):
+        pairs = pairs_below(self.heap())
+        return {y for y in self.order if y in names or any((x, y) in pairs for x in names)}
+
+    def below(self, names):
+        pairs = pairs_below(self.heap())
+        return {x for x in self.order if x in names or any((x, y) in pairs for y in names)}
+
+    def deleted_by(self, documents):
+        starts = [name for name in self.order if name not in self.done and self.touched(name) & set(documents)]
+        return self.sorted_names(self.above(starts))
+
+    # What changes the model.
+
+    def add(self, kind, argument, documents):
+        self.events.append((kind, argument, tuple(sorted(documents))))
+
+    def open_document(self, document, content=""):
+        if document in self.first:
+            raise Refused("AlreadyOpen", document)
+        self.first[document] = content
+        self.final[document] = []
+        self.saved[document] = ()
+        self.opened.add(document)
+        self.add("open", (document, content), {document})
+
+    def do(self, name, edits):
+        if name in self.edits:
+            raise Refused("DuplicateName", name)
+        for edit in edits:
+            self.need_open(edit[0])
+        for document, at, removed, _ in edits:
+            if at > len(self.content(document)) or not self.content(document)[at:].startswith(removed):
+                raise Refused("EditMismatch", document)
+        for document, at, removed, inserted in edits:
+            text = self.content(document)[:at] + inserted + self.content(document)[at + len(removed):]
+            if len(text) > 400:
+                raise Refused("BadContent", text)
+        deleted = self.deleted_by({edit[0] for edit in edits})
+        self.order = [other for other in self.order if other not in deleted] + [name]
+        self.edits[name] = edits
+        self.done.add(name)
+        self.add("do", (name, edits), self.touched(name, *deleted))
+        return deleted
+
+    def back(self, kind, argument, name):
+        names = self.sorted_names(self.above([name]) & self.done)[::-1]
+        self.done -= set(names)
+        self.add(kind, argument, self.touched(*names))
+        return names
+
+    def forth(self, kind, argument, name):
+        names = self.sorted_names(self.below([name]) - self.done)
+        self.done |= set(names)
+        self.add(kind, argument, self.touched(*names))
+        return names
+
+    def undo(self, document):
+        self.need_open(document)
+        done = [name for name in self.listed(document) if name in self.done]
+        if not done:
+            raise Refused("NothingToUndo", document)
+        return self.back("undo", document, done[-1])
+
+    def redo(self, document):
+        if not self.undone(document):
+            raise Refused("NothingToRedo", document)
+        return self.forth("redo", document, self.undone(document)[0])
+
+    def take_back(self, name):
+        self.need_action(name)
+        if name not in self.done:
+            raise Refused("AlreadyUndone", name)
+        return self.back("take_back", name, name)
+
+    def restore(self, name):
+        self.need_action(name)
+        if name in self.done:
+            raise Refused("AlreadyDone", name)
+        return self.forth("restore", name, name)
+
+    def save(self, document):
+        self.saved[document] = self.applied(document)
+        self.add("save", document, {document})
+
+    def settle(self, starts):
+        names = self.sorted_names(self.below(starts))
+        for document in self.first:
+            self.final[document] += [name for name in self.listed(document) if name in names]
+        self.order = [name for name in self.order if name not in names]
+        self.done -= set(names)
+        return names
+
+    def close(self, document):
+        self.need_open(document)
+        before = self.heap()
+        deleted = self.deleted_by([document])
+        final = self.settle([name for name in self.listed(document) if name in self.done])
+        self.order = [name for name in self.order if name not in deleted]
+        for kept in (self.first, self.final, self.saved):
+            del kept[document]
+        assert [name for name, _ in before if name in final] == list(final)
+        self.add("close", document, {document} | self.touched(*final, *deleted))
+        return final, deleted
+
+    def forget(self, document):
+        self.need_open(document)
+        done = [name for name in self.listed(document) if name in self.done]
+        if not done:
+            raise Refused("NothingToForget", document)
+        final = self.settle(done[:1])
+        self.add("forget", document, {document} | self.touched(*final))
+        return final
+
+
+# How often each kind of call is drawn; BUSY makes large heaps.
+CHANGES = {"do": 10, "undo": 6, "redo": 6, "take_back": 3, "restore": 4, "save": 2, "forget": 1, "close": 1, "open": 3}
+BUSY = {"do": 24, "undo": 3, "redo": 12, "take_back": 1, "restore": 6, "save": 1, "open": 3}
+UNDOS = {"undo": 4, "take_back": 3, "redo": 1, "restore": 1}
+
+
+def draw_edits(source, model):
+    """Return edits of open documents; they fit, except for a few."""
+    documents = model.documents()
+    count = min(source.choice((1, 1, 1, 2, 2, 2, 3, 4)), len(documents))
+    edits = []
+    for document in sorted(source.sample(documents, count)):
+        content = model.content(document)
+        at = source.randint(0, len(content))
+        removed = content[at:at + source.randint(0, 3)]
+        inserted = "".join(source.choices("klmn ~!", k=source.randint(0, 4)))
+        edits.append((document, at, removed if source.random() < 0.98 else removed + "?", inserted))
+    return tuple(edits)
+
+
+def draw_call(source, model, documents, weights):
+    """Return a method and its arguments: mostly a call that changes something, at times one that is refused."""
+    kind = source.choices(list(weights), list(weights.values()))[0]
+    if kind == "open" or not model.first:
+        return "open_document", source.choice(documents), source.choice(("", "one", "two words"))
+    if kind == "do":
+        used = sorted(model.edits)
+        again = used and source.random() < 0.03
+        fresh = "".join(source.choices(string.ascii_lowercase, k=source.randint(2, 3)))
+        return "do", source.choice(used) if again else fresh, draw_edits(source, model)
+    if kind in ("take_back", "restore"):
+        likely = [name for name in model.order if (name in model.done) == (kind == "take_back")]
+        return kind, source.choice(likely if likely and source.random() < 0.7 else [*sorted(model.edits), "never"])
+    likely = [document for document in model.documents() if kind != "redo" or model.undone(document)]
+    return kind, source.choice(likely if likely and source.random() < 0.9 else documents)
+
+
+def drawn_calls(seed, count, documents=4, weights=CHANGES):
+    """Yield calls and the model in which each of them was just made; the same for the same arguments."""
+    source = random.Random(seed)
+    model = Model()
+    for at in range(count):
+        # Among other calls an undo is soon followed by an action that deletes much; so some come in a row.
+        chosen = UNDOS if at % 16 > 12 and weights != BUSY else weights
+        method, *arguments = draw_call(source, model, DOCUMENTS[:documents], chosen)
+        if method != "do" or len(model.order) < 40:
+            yield method, arguments, model.told(method, *arguments), model
+
+
+def drawn_workspace(seed, count, documents=4, weights=CHANGES):
+    """Return a workspace after drawn calls, of which some were refused."""
+    workspace = Workspace()
+    for method, arguments, _, _ in drawn_calls(seed, count, documents, weights):
+        told(getattr(workspace, method), *arguments)
+    return workspace
+
+
+def half_undone(seed, count, documents=5):
+    """Return a workspace after drawn calls, with about half of its actions undone."""
+    workspace = drawn_workspace(seed, count, documents, BUSY)
+    source = random.Random(seed)
+    aim = len(workspace.heap()) // 2
+    while len(workspace.cut()) > aim:
+        told(workspace.undo, source.choice(workspace.documents()))
+    return workspace
+
+
+def doc_workspace(*documents):
+    """Return a workspace with these open documents, each with its own name as its content."""
+    workspace = Workspace()
+    for document in documents:
+        workspace.open_document(document, document)
+    return workspace
+
+
+def mark(*documents):
+    """Return edits that put a sign in front of each of these documents."""
+    return tuple((document, 0, "", "!") for document in sorted(documents))

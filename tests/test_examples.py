@@ -45,6 +45,163 @@ EXAMPLES = {
     >>> normal((('t', ('b',)), ('s', ('b', 'c')), ('q', ('a',))))
     (('q', ('a',)), ('t', ('b',)), ('s', ('b', 'c')))
 """],
+    10: ["""
+    >>> from crossundo.cuts import undo_set
+    >>> heap = (('x', ('a', 'b')), ('y', ('b', 'c')), ('z', ('c',)))
+    >>> undo_set(heap, ('x', 'y', 'z'), 'a')
+    ('z', 'y', 'x')
+""", """
+    >>> from crossundo.cuts import redo_set
+    >>> heap = (('x', ('a', 'b')), ('y', ('b', 'c')), ('z', ('c',)))
+    >>> redo_set(heap, (), 'c')
+    ('x', 'y')
+"""],
+    11: ["""
+    >>> from crossundo.cuts import cuts_of
+    >>> cuts_of((('x', ('a', 'b')), ('y', ('b',)), ('z', ('c',))))
+    ((), ('x',), ('x', 'y'), ('x', 'y', 'z'), ('x', 'z'), ('z',))
+""", """
+    >>> from crossundo.cuts import presses_to
+    >>> heap = (('x', ('a', 'b')), ('y', ('b', 'c')), ('z', ('c',)))
+    >>> presses_to(heap, ('x', 'y', 'z'), ('x',))
+    (('undo', 'c'), ('undo', 'b'))
+"""],
+    12: ["""
+    >>> from crossundo.cuts import independent
+    >>> heap = (('x', ('a', 'b')), ('y', ('b', 'c')), ('z', ('c',)))
+    >>> independent(heap, ('x', 'y', 'z'), ('undo', 'a'), ('undo', 'c'))
+    False
+"""],
+    13: ["""
+    >>> from crossundo.workspace import Workspace
+    >>> w = Workspace()
+    >>> w.open_document('b', 'two')
+    >>> w.open_document('a')
+    >>> (w.documents(), w.content('b'), w.content('a'))
+    (('a', 'b'), 'two', '')
+"""],
+    14: ["""
+    >>> from crossundo.workspace import Workspace
+    >>> w = Workspace()
+    >>> w.open_document('a', 'one')
+    >>> w.open_document('b', 'two')
+    >>> w.open_document('c', 'six')
+    >>> w.do('x', (('a', 0, 'one', 'ONE'), ('b', 0, 'two', 'TWO')))
+    >>> w.undo('b')
+    >>> (w.do('v', (('a', 3, '', '.'),)), w.content('a'), w.content('b'))
+    (('x',), 'one.', 'two')
+"""],
+    15: ["""
+    >>> from crossundo.workspace import Workspace
+    >>> w = Workspace()
+    >>> w.open_document('a', 'one')
+    >>> w.open_document('b', 'two')
+    >>> w.open_document('c', 'six')
+    >>> w.do('x', (('a', 0, 'one', 'ONE'), ('b', 0, 'two', 'TWO')))
+    >>> w.do('y', (('b', 3, '', '!'), ('c', 0, 's', 'm')))
+    >>> w.do('z', (('c', 3, '', '?'),))
+    >>> w.undo('a')
+    >>> w.redo('c')
+    >>> (w.applied('c'), w.undone('c'), w.content('b'), w.content('c'))
+    (('y',), ('z',), 'TWO!', 'mix')
+""", """
+    >>> from crossundo.workspace import Workspace
+    >>> w = Workspace()
+    >>> w.open_document('a')
+    >>> w.redo('a')
+    raises NothingToRedo(document='a')
+"""],
+    16: ["""
+    >>> from crossundo.workspace import Workspace
+    >>> w = Workspace()
+    >>> w.open_document('a', 'one')
+    >>> w.open_document('b', 'two')
+    >>> w.open_document('c', 'six')
+    >>> w.do('x', (('a', 0, 'one', 'ONE'), ('b', 0, 'two', 'TWO')))
+    >>> w.do('y', (('b', 3, '', '!'), ('c', 0, 's', 'm')))
+    >>> w.do('z', (('c', 3, '', '?'),))
+    >>> (w.take_back('y'), w.cut(), w.restore('z'), w.heap())
+    (('z', 'y'), ('x',), ('y', 'z'), (('x', ('a', 'b')), ('y', ('b', 'c')), ('z', ('c',))))
+"""],
+    17: ["""
+    >>> from crossundo.workspace import Workspace
+    >>> w = Workspace()
+    >>> w.open_document('a', 'one')
+    >>> w.open_document('b', 'two')
+    >>> w.open_document('c', 'six')
+    >>> w.do('x', (('a', 0, 'one', 'ONE'), ('b', 0, 'two', 'TWO')))
+    >>> w.do('y', (('b', 3, '', '!'), ('c', 0, 's', 'm')))
+    >>> w.do('z', (('c', 3, '', '?'),))
+    >>> w.undo('a')
+    >>> from crossundo.previews import survivors, would_delete
+    >>> (would_delete(w, ('b',)), survivors(w, ('c',)))
+    (('x', 'y', 'z'), ('x',))
+"""],
+    18: ["""
+    >>> from crossundo.workspace import Workspace
+    >>> w = Workspace()
+    >>> w.open_document('a', 'one')
+    >>> w.open_document('b', 'two')
+    >>> w.open_document('c', 'six')
+    >>> w.do('x', (('a', 0, 'one', 'ONE'), ('b', 0, 'two', 'TWO')))
+    >>> w.save('b')
+    >>> w.undo('a')
+    >>> before = w.is_clean('b')
+    >>> w.redo('b')
+    >>> (before, w.is_clean('b'), w.is_clean('a'))
+    (False, True, False)
+"""],
+    19: ["""
+    >>> from crossundo.workspace import Workspace
+    >>> w = Workspace()
+    >>> w.open_document('a', 'one')
+    >>> w.open_document('b', 'two')
+    >>> w.open_document('c', 'six')
+    >>> w.do('x', (('a', 0, 'one', 'ONE'), ('b', 0, 'two', 'TWO')))
+    >>> w.do('y', (('b', 3, '', '!'), ('c', 0, 's', 'm')))
+    >>> w.do('z', (('c', 3, '', '?'),))
+    >>> w.undo('c')
+    >>> (w.close('b'), w.heap(), w.applied('a'), w.undone('c'))
+    ((('x', 'y'), ()), (('z', ('c',)),), ('x',), ('z',))
+"""],
+    20: ["""
+    >>> from crossundo.workspace import Workspace
+    >>> w = Workspace()
+    >>> w.open_document('a', 'one')
+    >>> w.open_document('b', 'two')
+    >>> w.open_document('c', 'six')
+    >>> w.do('x', (('a', 0, 'one', 'ONE'), ('b', 0, 'two', 'TWO')))
+    >>> w.undo('b')
+    >>> w.log()[3:]
+    (('do', ('x', (('a', 0, 'one', 'ONE'), ('b', 0, 'two', 'TWO'))), ('a', 'b')), ('undo', 'b', ('a', 'b')))
+"""],
+    21: ["""
+    >>> from crossundo.workspace import Workspace
+    >>> w = Workspace()
+    >>> w.open_document('a', 'one')
+    >>> w.open_document('b', 'two')
+    >>> w.open_document('c', 'six')
+    >>> w.do('x', (('a', 0, 'one', 'ONE'), ('b', 0, 'two', 'TWO')))
+    >>> w.save('b')
+    >>> w.undo('a')
+    >>> w.journal('b')[2:]
+    ((('save', 'b', ('b',)), (('b', 2),)), (('undo', 'a', ('a', 'b')), (('a', 2), ('b', 3))))
+"""],
+    22: ["""
+    >>> from crossundo.workspace import Workspace
+    >>> w = Workspace()
+    >>> w.open_document('a', 'one')
+    >>> w.open_document('b', 'two')
+    >>> w.open_document('c', 'six')
+    >>> w.do('x', (('a', 0, 'one', 'ONE'), ('b', 0, 'two', 'TWO')))
+    >>> from crossundo.replaying import replay
+    >>> replay(w.log()).state() == w.state()
+    True
+""", """
+    >>> from crossundo.replaying import replay
+    >>> replay((('open', ('a', ''), ('a',)), ('undo', 'a', ('a',))))
+    raises BadLog(number=1)
+"""],
 }
 
 

@@ -6,37 +6,8 @@ import random
 import unittest
 
 from crossundo.heaps import down, is_below, is_heap, list_of, normal, same_heap, up
-from tests.samples import DOCUMENTS, Hostile, many_heaps, nested, other_kinds, random_heap
-
-CHAIN = (("x", ("a", "b")), ("y", ("b", "c")), ("z", ("c",)))
-
-
-def pairs_below(heap):
-    """Return all pairs (x, y) with x below y, by the words of the definition."""
-    order = [name for name, _ in heap]
-    touched = dict(heap)
-    pairs = set()
-    for far in range(1, len(order)):
-        for at in range(len(order) - far):
-            first, last = order[at], order[at + far]
-            between = order[at + 1:at + far]
-            if set(touched[first]) & set(touched[last]):
-                pairs.add((first, last))
-            elif any((first, middle) in pairs and (middle, last) in pairs for middle in between):
-                pairs.add((first, last))
-    return pairs
-
-
-def normal_by_definition(heap):
-    pairs = pairs_below(heap)
-    touched = dict(heap)
-    remaining = set(touched)
-    ordered = []
-    while remaining:
-        least = min(name for name in remaining if not any((other, name) in pairs for other in remaining))
-        remaining.remove(least)
-        ordered.append((least, touched[least]))
-    return tuple(ordered)
+from tests.samples import CHAIN, DOCUMENTS, Hostile, all_small_heaps, many_heaps, nested, normal_by_definition
+from tests.samples import other_kinds, pairs_below, random_heap
 
 
 def same_by_lists(heap, other):
@@ -45,14 +16,6 @@ def same_by_lists(heap, other):
         return False
     return all([name for name, touched in heap if document in touched]
                == [name for name, touched in other if document in touched] for document in documents)
-
-
-def all_small_heaps():
-    choices = [touched for size in (1, 2, 3) for touched in itertools.combinations("abc", size)]
-    for count in range(4):
-        for names in itertools.permutations("xyz"[:count]):
-            for touched in itertools.product(choices, repeat=count):
-                yield tuple(zip(names, touched))
 
 
 def samples_of_names(heap, seed):

@@ -61,6 +61,29 @@ def names_at_top(tree):
     return found
 
 
+def names_imported(tree):
+    return {alias.asname or alias.name for node in tree.body if isinstance(node, ast.ImportFrom) for alias in node.names}
+
+
+def files_imported(tree):
+    return {node.module.split(".")[1] for node in tree.body if isinstance(node, ast.ImportFrom)}
+
+
+def names_inside(tree):
+    """Return the parameters, local variables and nested functions of a file."""
+    found = set()
+    for node in ast.walk(tree):
+        if isinstance(node, (ast.FunctionDef, ast.Lambda)):
+            for inner in ast.walk(node):
+                if isinstance(inner, ast.arg):
+                    found.add(inner.arg)
+                elif isinstance(inner, ast.Name) and not isinstance(inner.ctx, ast.Load):
+                    found.add(inner.id)
+                elif isinstance(inner, ast.FunctionDef) and inner is not node:
+                    found.add(inner.name)
+    return found
+
+
 class LanguageTest(unittest.TestCase):
 
     def setUp(self):
@@ -125,6 +148,44 @@ class LanguageTest(unittest.TestCase):
                 if name not in SPECIAL:
                     self.assertRegex(name, r"\A[A-Za-z][A-Za-z0-9_]*\Z", path.name)
                 self.assertNotIn(name, UNUSED.union(dir(builtins)) - SPECIAL, path.name)
+
+    def test_no_local_name_is_an_import_a_class_or_a_function(self):
+        for path, tree in self.trees.items():
+            top = {node.name for node in tree.body if isinstance(node, (ast.ClassDef, ast.FunctionDef))}
+            self.assertEqual(names_inside(tree) & (names_imported(tree) | top), set(), path.name)
+
+    def test_no_two_files_import_from_each_other(self):
+        imported = {path.stem: files_imported(tree) for path, tree in self.trees.items()}
+        while imported:
+            free = [name for name, others in imported.items() if not others & set(imported)]
+            self.assertTrue(free, imported)
+            imported = {name: others for name, others in imported.items() if name not in free}
+
+    def test_imports_stand_at_the_top(self):
+        for path, tree in self.trees.items():
+            places = [at for at, node in enumerate(tree.body) if isinstance(node, ast.ImportFrom)]
+            self.assertEqual(places, list(range(1, len(places) + 1)), path.name)
+
+    def test_methods_and_attributes(self):
+        methods = set()
+        stored = set()
+        read = set()
+        for _, node in self.nodes():
+            if isinstance(node, ast.ClassDef):
+                names = [row.name for row in node.body if isinstance(row, ast.FunctionDef)]
+                self.assertEqual(len(names), len(set(names)), node.name)
+                methods.update(names)
+        called = {node.func for _, node in self.nodes() if isinstance(node, ast.Call)}
+        for _, node in self.nodes():
+            if isinstance(node, ast.Attribute):
+                if isinstance(node.ctx, ast.Store):
+                    stored.add(node.attr)
+                elif node not in called:
+                    read.add(node.attr)
+        self.assertEqual(methods & stored, set())
+        self.assertEqual(read - stored, set())
+        builtin = {name for value in ("", 0, [], {}, set(), b"") for name in dir(value)} - {"__init__"}
+        self.assertEqual((methods | stored) & builtin, set())
 
     def test_builtins_and_methods(self):
         own = {node.name for _, node in self.nodes() if isinstance(node, ast.FunctionDef)}
