@@ -1,6 +1,6 @@
 """Cuts of a heap: which actions are done, and which of them a press changes."""
 
-from crossundo.edits import is_ascending, is_name
+from crossundo.edits import is_names
 from crossundo.errors import NothingToRedo, NothingToUndo, TooMany
 from crossundo.heaps import down, list_of, normal, share, up
 
@@ -9,12 +9,10 @@ MOST_CUTS = 2000
 
 def is_cut(heap, thing):
     """Return whether any object is a cut of the heap: ascending names, with each action all actions below it."""
-    if not isinstance(thing, tuple) or not all(is_name(part) for part in thing):
+    if not is_names(thing):
         return False
     known = [name for name, documents in heap]
-    if not is_ascending(thing) or not all(name in known for name in thing):
-        return False
-    return len(down(heap, thing)) == len(thing)
+    return all(name in known for name in thing) and len(down(heap, thing)) == len(thing)
 
 
 def undo_set(heap, cut, document):

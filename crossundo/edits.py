@@ -22,6 +22,16 @@ def is_content(thing):
     return all(" " <= character <= "~" and ord(character) != PERCENT for character in thing)
 
 
+def is_pair(thing):
+    """Return whether any object is a tuple of two."""
+    return isinstance(thing, tuple) and len(thing) == 2
+
+
+def is_names(thing):
+    """Return whether any object is an ascending tuple of names."""
+    return isinstance(thing, tuple) and all(is_name(part) for part in thing) and is_ascending(thing)
+
+
 def is_position(thing):
     """Return whether any object is a whole number from 0."""
     # Python counts True and False among the integers; the document does not.

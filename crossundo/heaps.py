@@ -1,6 +1,6 @@
 """Heaps: actions in their order, related by the documents that they share."""
 
-from crossundo.edits import MOST_DOCUMENTS, is_ascending, is_name
+from crossundo.edits import MOST_DOCUMENTS, is_name, is_names, is_pair
 
 
 def is_heap(thing):
@@ -12,17 +12,12 @@ def is_heap(thing):
 
 def is_action(thing):
     """Return whether any object is a pair of a name and the documents that the action touches."""
-    if not isinstance(thing, tuple) or len(thing) != 2:
-        return False
-    name, documents = thing
-    return is_name(name) and is_touched(documents)
+    return is_pair(thing) and is_name(thing[0]) and is_touched(thing[1])
 
 
 def is_touched(thing):
     """Return whether any object is an ascending tuple of 1 to 4 names."""
-    if not isinstance(thing, tuple) or not 1 <= len(thing) <= MOST_DOCUMENTS:
-        return False
-    return all(is_name(part) for part in thing) and is_ascending(thing)
+    return is_names(thing) and 1 <= len(thing) <= MOST_DOCUMENTS
 
 
 def up(heap, names):

@@ -2,6 +2,7 @@
 
 import itertools
 import random
+import re
 import string
 
 from crossundo.errors import UndoError
@@ -431,3 +432,195 @@ def doc_workspace(*documents):
 def mark(*documents):
     """Return edits that put a sign in front of each of these documents."""
     return tuple((document, 0, "", "!") for document in sorted(documents))
+
+
+def number_of_first_bad(log):
+    """Return the number of the first event that the plain model refuses or does with another footprint."""
+    model = Model()
+    for number, (kind, argument, footprint) in enumerate(log):
+        method = "open_document" if kind == "open" else kind
+        arguments = argument if kind in ("open", "do") else (argument,)
+        if model.told(method, *arguments)[0] != "returned" or model.events[-1][2] != footprint:
+            return number
+    return None
+
+
+def everything(workspace):
+    """Return all that a workspace tells."""
+    documents = workspace.documents()
+    return (workspace.state(), workspace.log(), workspace.heap(), workspace.cut(),
+            [told(workspace.journal, document) for document in DOCUMENTS],
+            [(workspace.content(document), workspace.applied(document), workspace.undone(document),
+              workspace.is_clean(document)) for document in documents])
+
+
+# What is told of events, journals and kept rows, by the words of the document.
+
+KINDS = ("open", "do", "undo", "redo", "take_back", "restore", "save", "close", "forget")
+NAME = "[a-z]{1,8}"
+CONTENT = "[ -$&-~]{0,400}"
+
+
+def has_form(pattern, thing):
+    """Return whether an object is a string of this form."""
+    return type(thing) is str and re.fullmatch(pattern, thing) is not None
+
+
+def is_number_from_0(thing):
+    return type(thing) is int and thing >= 0
+
+
+def is_tuple(thing, *tests):
+    """Return whether an object is a tuple of as many parts as there are tests, each of which holds of its part."""
+    return type(thing) is tuple and len(thing) == len(tests) and all(test(part) for test, part in zip(tests, thing))
+
+
+def is_name_by_definition(thing):
+    return has_form(NAME, thing)
+
+
+def is_content_by_definition(thing):
+    return has_form(CONTENT, thing)
+
+
+def is_footprint_by_definition(thing):
+    return (type(thing) is tuple and len(thing) > 0 and all(has_form(NAME, part) for part in thing)
+            and list(thing) == sorted(set(thing)))
+
+
+def is_edits_by_definition(thing):
+    contents = is_content_by_definition
+    if type(thing) is not tuple or len(thing) not in (1, 2, 3, 4):
+        return False
+    if not all(is_tuple(edit, is_name_by_definition, is_number_from_0, contents, contents) for edit in thing):
+        return False
+    documents = [edit[0] for edit in thing]
+    return documents == sorted(set(documents))
+
+
+def is_event_by_definition(thing):
+    if not is_tuple(thing, lambda kind: type(kind) is str and kind in KINDS, lambda _: True, is_footprint_by_definition):
+        return False
+    if thing[0] == "open":
+        return is_tuple(thing[1], is_name_by_definition, is_content_by_definition)
+    if thing[0] == "do":
+        return is_tuple(thing[1], is_name_by_definition, is_edits_by_definition)
+    return has_form(NAME, thing[1])
+
+
+def is_place_by_definition(thing):
+    return is_tuple(thing, is_name_by_definition, is_number_from_0)
+
+
+def is_row_by_definition(thing):
+    def is_places(places):
+        return type(places) is tuple and all(is_place_by_definition(place) for place in places)
+    return is_tuple(thing, is_event_by_definition, is_places) and [place[0] for place in thing[1]] == list(thing[0][2])
+
+
+def is_journals_by_definition(thing):
+    def is_rows(rows):
+        return type(rows) is tuple and all(is_row_by_definition(row) for row in rows)
+    if type(thing) is not tuple or not all(is_tuple(pair, is_name_by_definition, is_rows) for pair in thing):
+        return False
+    documents = [document for document, _ in thing]
+    return documents == sorted(set(documents)) and all(
+        (document, number) in places for document, rows in thing for number, (_, places) in enumerate(rows))
+
+
+def journals_by_definition(log):
+    """Return the journals of a log, by counting; whether the events can be done is not looked at."""
+    rows = {}
+    for event in log:
+        places = tuple((document, len(rows.get(document, []))) for document in event[2])
+        for document in event[2]:
+            rows.setdefault(document, []).append((event, places))
+    return tuple((document, tuple(rows[document])) for document in sorted(rows))
+
+
+def kept_by_definition(journals):
+    """Return the places of the kept rows: rows are dropped again and again."""
+    rows = {(document, number): row for document, told_rows in journals for number, row in enumerate(told_rows)}
+    left = set(rows)
+
+    def is_lost(place):
+        return any(rows.get((document, number)) != rows[place]
+                   or any((document, earlier) not in left for earlier in range(number))
+                   for document, number in rows[place][1])
+    lost = {place for place in left if is_lost(place)}
+    while lost:
+        left -= lost
+        lost = {place for place in left if is_lost(place)}
+    return left
+
+
+def kept_journals(journals):
+    """Return the kept rows, as journals: those without a row left out."""
+    left = kept_by_definition(journals)
+    pairs = [(document, tuple(row for number, row in enumerate(rows) if (document, number) in left))
+             for document, rows in journals]
+    return tuple((document, rows) for document, rows in pairs if rows)
+
+
+def cut_off(source, journals, share=0.5):
+    """Return journals of which some, drawn, are cut off at drawn places."""
+    return tuple((document, rows[:source.randint(0, len(rows))] if source.random() < share else rows)
+                 for document, rows in journals)
+
+
+def beginnings(journals, counts):
+    """Return journals of which each has only so many rows."""
+    return tuple((document, rows[:count]) for (document, rows), count in zip(journals, counts))
+
+
+# Objects of any kind, and things of which a part is bent.
+
+NAMES = ("a", "b", "c", "d", "x", "zz", "abcdefgh", "abcdefghi", "A", "", "a b", "a\n")
+LEAVES = (*NAMES, *KINDS, "open_document", "at", "edit", 0, 1, 2, 5, 400, -1, True, False, None, b"a", "%", "~" * 401)
+
+
+def bent_leaf(source, leaf):
+    """Return something in the place of a string or a number, often of the same kind."""
+    choices = [source.choice(LEAVES), source.choice(NAMES[:7]), source.choice(KINDS), (leaf,), [leaf], Hostile()]
+    if type(leaf) is str:
+        choices += [leaf + "a", leaf[1:], leaf[::-1], leaf * 2, leaf.upper(), leaf + "%", leaf + " ", leaf.encode(), list(leaf)]
+    else:
+        choices += [leaf + 1, leaf - 1, -leaf, bool(leaf), str(leaf), leaf + 1, leaf - 1]
+    return source.choice(choices)
+
+
+def bent_here(source, thing):
+    """Return a tuple with one part left out, doubled, put in or exchanged, or another kind of value instead."""
+    at = source.randint(0, max(0, len(thing) - 1))
+    return source.choice((
+        lambda: thing[:at] + thing[at + 1:],
+        lambda: thing[:at + 1] + thing[at:],
+        lambda: thing[::-1],
+        lambda: thing[:at] + (source.choice(LEAVES),) + thing[at:],
+        lambda: thing[:at] + (source.choice(other_kinds()),) + thing[at + 1:],
+        lambda: thing[:at] + thing[at + 1:at + 2] + thing[at:at + 1] + thing[at + 2:],
+        lambda: list(thing),
+        lambda: (thing,),
+        lambda: thing[at] if thing else None,
+        lambda: thing + thing,
+        lambda: {part: part for part in thing if type(part) is str},
+    ))()
+
+
+def bent(source, thing):
+    """Return a thing with something changed at a drawn place and depth."""
+    if type(thing) is not tuple:
+        return bent_leaf(source, thing) if type(thing) in (str, int) else source.choice(LEAVES)
+    if not thing or source.random() < 0.2:
+        return bent_here(source, thing)
+    at = source.randrange(len(thing))
+    return thing[:at] + (bent(source, thing[at]),) + thing[at + 1:]
+
+
+def anything():
+    """Return objects of any kind, those that are nested, and those that hold others in places where they may be asked."""
+    things = [*no_names(), *NAMES, *KINDS]
+    for _ in range(2):
+        things += [(thing,) for thing in things[:60]] + [(thing, thing) for thing in things[:60]]
+    things += [nested(kind, depth) for kind in (tuple, list) for depth in (2, 5, 26, 27, 28, 29, 30)]
+    return things + [("save", "a", ("a",), thing) for thing in other_kinds()]

@@ -7,28 +7,8 @@ import unittest
 from crossundo.errors import BadLog
 from crossundo.replaying import replay
 from crossundo.workspace import Workspace
-from tests.samples import BUSY, DOCUMENTS, Model, doc_workspace, drawn_calls, drawn_workspace, half_undone, is_plain
-from tests.samples import mark, told
-
-
-def number_of_first_bad(log):
-    """Return the number of the first event that the plain model refuses or does with another footprint."""
-    model = Model()
-    for number, (kind, argument, footprint) in enumerate(log):
-        method = "open_document" if kind == "open" else kind
-        arguments = argument if kind in ("open", "do") else (argument,)
-        if model.told(method, *arguments)[0] != "returned" or model.events[-1][2] != footprint:
-            return number
-    return None
-
-
-def everything(workspace):
-    """Return all that a workspace tells."""
-    documents = workspace.documents()
-    return (workspace.state(), workspace.log(), workspace.heap(), workspace.cut(),
-            [told(workspace.journal, document) for document in DOCUMENTS],
-            [(workspace.content(document), workspace.applied(document), workspace.undone(document),
-              workspace.is_clean(document)) for document in documents])
+from tests.samples import BUSY, DOCUMENTS, doc_workspace, drawn_calls, drawn_workspace, everything, half_undone, is_plain
+from tests.samples import mark, number_of_first_bad, told
 
 
 class LogTest(unittest.TestCase):

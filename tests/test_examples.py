@@ -1,5 +1,6 @@
-"""The examples of DOC.md, word for word, by the points in which they stand."""
+"""The examples of DOC.md, word for word, by the points in which they stand, and those of README.md."""
 
+import doctest
 import pathlib
 import textwrap
 import unittest
@@ -7,6 +8,7 @@ import unittest
 from crossundo import errors
 
 DOC = pathlib.Path(__file__).resolve().parents[2] / "shared" / "DOC.md"
+README = pathlib.Path(__file__).resolve().parents[1] / "README.md"
 
 EXAMPLES = {
     5: ["""
@@ -202,6 +204,43 @@ EXAMPLES = {
     >>> replay((('open', ('a', ''), ('a',)), ('undo', 'a', ('a',))))
     raises BadLog(number=1)
 """],
+    23: ["""
+    >>> from crossundo.logs import alike, difference
+    >>> one = (('save', 'a', ('a',)), ('save', 'b', ('b',)))
+    >>> (alike(one, one[::-1]), difference(one, one[:1]))
+    (True, ('b', 0))
+"""],
+    24: ["""
+    >>> from crossundo.workspace import Workspace
+    >>> w = Workspace()
+    >>> w.open_document('a', 'one')
+    >>> w.open_document('b', 'two')
+    >>> w.open_document('c', 'six')
+    >>> w.do('x', (('a', 0, 'one', 'ONE'), ('b', 0, 'two', 'TWO')))
+    >>> w.undo('a')
+    >>> from crossundo.recovery import journals_of, kept
+    >>> a, b, c = journals_of(w)
+    >>> kept((a, (b[0], b[1][:2]), c))
+    (('a', 2), ('b', 2), ('c', 1))
+"""],
+    25: ["""
+    >>> from crossundo.workspace import Workspace
+    >>> w = Workspace()
+    >>> w.open_document('a', 'one')
+    >>> w.open_document('b', 'two')
+    >>> w.open_document('c', 'six')
+    >>> w.do('x', (('a', 0, 'one', 'ONE'), ('b', 0, 'two', 'TWO')))
+    >>> w.undo('a')
+    >>> from crossundo.recovery import journals_of, recover
+    >>> a, b, c = journals_of(w)
+    >>> recover((a, (b[0], b[1][:2]), c)).content('b')
+    'TWO'
+"""],
+    27: ["""
+    >>> from crossundo.texts import show_log
+    >>> show_log((('open', ('a', 'one'), ('a',)), ('do', ('x', (('a', 0, 'one', 'two'),)), ('a',))))
+    'open a one\\nat a\\ndo x\\nedit a 0 3 onetwo\\nat a'
+"""],
 }
 
 
@@ -236,6 +275,11 @@ class ExamplesTest(unittest.TestCase):
             self.assertEqual(body.count("\nExample:\n"), len(texts), point)
             for text in texts:
                 self.assertIn(f"\nExample:\n{text}", body, point)
+
+    def test_the_examples_of_the_readme(self):
+        found = doctest.testfile(str(README), module_relative=False)
+        self.assertGreater(found.attempted, 30)
+        self.assertEqual(found.failed, 0)
 
 
 if __name__ == "__main__":
