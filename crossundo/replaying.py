@@ -19,22 +19,23 @@ def replay(log):
 
 
 def repeat(workspace, kind, argument):
-    """Call the method of which this was the event."""
+    """Call the method of which this was the event, and return what it returns."""
     if kind == "open":
-        workspace.open_document(argument[0], argument[1])
-    elif kind == "do":
-        workspace.do(argument[0], argument[1])
-    elif kind == "undo":
-        workspace.undo(argument)
-    elif kind == "redo":
-        workspace.redo(argument)
-    elif kind == "take_back":
-        workspace.take_back(argument)
-    elif kind == "restore":
-        workspace.restore(argument)
-    elif kind == "save":
-        workspace.save(argument)
-    elif kind == "close":
-        workspace.close(argument)
-    elif kind == "forget":
-        workspace.forget(argument)
+        return workspace.open_document(argument[0], argument[1])
+    if kind == "do":
+        return workspace.do(argument[0], argument[1])
+    if kind == "undo":
+        return workspace.undo(argument)
+    if kind == "redo":
+        return workspace.redo(argument)
+    if kind == "take_back":
+        return workspace.take_back(argument)
+    if kind == "restore":
+        return workspace.restore(argument)
+    if kind == "save":
+        return workspace.save(argument)
+    if kind == "close":
+        return workspace.close(argument)
+    if kind == "forget":
+        return workspace.forget(argument)
+    return None

@@ -1,6 +1,6 @@
 """Texts: the form of an event, and logs written as rows."""
 
-from crossundo.edits import is_content, is_edit, is_edits, is_name, is_names, is_pair
+from crossundo.edits import is_content, is_edits, is_name, is_names, is_pair
 from crossundo.errors import BadText
 
 # The kinds whose argument is one name, of a document or of an action.
@@ -100,22 +100,22 @@ def read_head(row):
 def read_edits(rows, at):
     """Return as many edits as stand in the rows from this one on, () if none does."""
     edits = ()
-    more = read_edit(row_at(rows, at))
-    while more is not None and is_edits(edits + (more,)):
-        edits = edits + (more,)
-        more = read_edit(row_at(rows, at + len(edits)))
+    more = (read_edit(row_at(rows, at)),)
+    while is_edits(edits + more):
+        edits = edits + more
+        more = (read_edit(row_at(rows, at + len(edits))),)
     return edits
 
 
 def read_edit(row):
-    """Return the edit that a row writes, None if it writes none."""
+    """Return what a row writes in the place of an edit, None if it has not as many parts."""
+    # Whether these are an edit is for is_edits to tell.
     parts = row.split(" ", 4)
     if len(parts) != 5 or parts[0] != "edit" or not is_number(parts[2]) or not is_number(parts[3]):
         return None
     count = int(parts[3])
     text = parts[4]
-    edit = (parts[1], int(parts[2]), text[:count], text[count:])
-    return edit if count <= len(text) and is_edit(edit) else None
+    return (parts[1], int(parts[2]), text[:count], text[count:]) if count <= len(text) else None
 
 
 def is_number(word):

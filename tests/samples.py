@@ -9,6 +9,7 @@ from crossundo.errors import UndoError
 from crossundo.workspace import Workspace
 
 DOCUMENTS = ("a", "b", "c", "d", "e", "f", "g", "h")
+ACTIONS = tuple(first + second for first in "abcdefgh" for second in "abcdefgh")
 CHAIN = (("x", ("a", "b")), ("y", ("b", "c")), ("z", ("c",)))
 
 
@@ -74,6 +75,12 @@ def all_small_heaps():
         for names in itertools.permutations("xyz"[:count]):
             for touched in itertools.product(choices, repeat=count):
                 yield tuple(zip(names, touched))
+
+
+def chains(*lengths):
+    """Return a heap with a list of this length in each of several documents."""
+    names = iter(ACTIONS)
+    return tuple((next(names), (document,)) for document, length in zip(DOCUMENTS, lengths) for _ in range(length))
 
 
 def pairs_below(heap):
@@ -624,3 +631,141 @@ def anything():
         things += [(thing,) for thing in things[:60]] + [(thing, thing) for thing in things[:60]]
     things += [nested(kind, depth) for kind in (tuple, list) for depth in (2, 5, 26, 27, 28, 29, 30)]
     return things + [("save", "a", ("a",), thing) for thing in other_kinds()]
+
+
+# Journals to be recovered.
+
+CIRCLE = (("a", ((("undo", "a", ("a", "b")), (("a", 0), ("b", 1))), (("redo", "b", ("a", "b")), (("a", 1), ("b", 0))))),
+          ("b", ((("redo", "b", ("a", "b")), (("a", 1), ("b", 0))), (("undo", "a", ("a", "b")), (("a", 0), ("b", 1))))))
+
+
+def workspaces(count=12):
+    """Return workspaces after drawn calls, some of them with many undone actions."""
+    return ([drawn_workspace(seed, 25 + seed % 3 * 15, 3 + seed % 4) for seed in range(count)]
+            + [half_undone(seed, 25) for seed in range(count // 3)])
+
+
+def some_journals(count=12):
+    return [journals_by_definition(workspace.log()) for workspace in workspaces(count)]
+
+
+def replaced_row(source, journals):
+    """Return journals in which one row, in one document only, is another one that has the form."""
+    full = [at for at, (_, rows) in enumerate(journals) if rows]
+    at = source.choice(full)
+    document, rows = journals[at]
+    number = source.randrange(len(rows))
+    (kind, argument, footprint), places = rows[number]
+    if source.random() < 0.5:
+        other = "redo" if kind != "redo" else "undo"
+        row = ((other, document, footprint), places)
+    elif len(places) > 1 and source.random() < 0.7:
+        # A place of another document points elsewhere.
+        moved = source.choice([place for place in places if place[0] != document])
+        elsewhere = (moved[0], source.choice((0, moved[1] + 1, max(0, moved[1] - 1), 99)))
+        row = ((kind, argument, footprint), tuple(elsewhere if place == moved else place for place in places))
+    else:
+        wider = tuple(sorted({*footprint, source.choice(DOCUMENTS)}))
+        numbers = dict(places)
+        row = ((kind, argument, wider), tuple((other, numbers.get(other, source.randint(0, 3))) for other in wider))
+    changed = rows[:number] + (row,) + rows[number + 1:]
+    return journals[:at] + ((document, changed),) + journals[at + 1:]
+
+
+def without_one(source, journals):
+    """Return journals that lack one document's."""
+    at = source.randrange(len(journals))
+    return journals[:at] + journals[at + 1:]
+
+
+def damaged(source, journals):
+    """Return journals that are cut off, have another row, or lack a document; all of it may happen."""
+    if source.random() < 0.7:
+        journals = cut_off(source, journals, source.choice((0.2, 0.5, 0.9)))
+    while source.random() < 0.4 and any(rows for _, rows in journals):
+        journals = replaced_row(source, journals)
+    while source.random() < 0.2 and len(journals) > 1:
+        journals = without_one(source, journals)
+    return journals
+
+
+def stirred_journals(source):
+    """Return journals of events that stand in each document in an order of its own, often in circles."""
+    documents = "abcd"[:source.randint(2, 4)]
+    events = []
+    for number in range(source.randint(1, 7)):
+        footprint = tuple(sorted(source.sample(documents, source.choice((1, 1, 2, 2, 3)[:len(documents) + 1]))))
+        events.append((source.choice(KINDS[2:]), "abcdefgh"[number], footprint))
+    orders = {document: [event for event in events if document in event[2]] for document in documents}
+    for document in documents:
+        if source.random() < 0.6:
+            source.shuffle(orders[document])
+
+    def row(event):
+        return event, tuple((document, orders[document].index(event)) for document in event[2])
+    return tuple((document, tuple(row(event) for event in orders[document])) for document in documents)
+
+
+def all_damaged(count=300):
+    """Return journals of many kinds, all of the form."""
+    found = [(), CIRCLE, (("a", ()),), (("a", ()), ("b", ()))]
+    whole = [journals for journals in some_journals() if journals]
+    for seed in range(count):
+        source = random.Random(seed)
+        found.append(damaged(source, whole[seed % len(whole)]))
+        found.append(stirred_journals(source))
+        found.append(damaged(source, stirred_journals(source)))
+    return found
+
+
+# Texts, by the words of point [27].
+
+NUMBER = "0|[1-9][0-9]{0,2}"
+FIRST = re.compile(f"open {NAME} {CONTENT}|(do|undo|redo|take_back|restore|save|close|forget) {NAME}")
+EDIT = re.compile(f"edit ({NAME}) ({NUMBER}) ({NUMBER}) ([ -$&-~]*)")
+LAST = re.compile(f"at(?: {NAME})+")
+
+
+def is_edit_row(row, documents):
+    """Return whether a row can stand behind `do` and edit rows of these documents."""
+    found = EDIT.fullmatch(row)
+    if not found or len(documents) == 4 or documents and documents[-1] >= found[1]:
+        return False
+    count = int(found[3])
+    return count <= min(len(found[4]), 400) and len(found[4]) - count <= 400
+
+
+def bad_row(text):
+    """Return the number of the first row that cannot stand there or is missing, by the words of point [27]; or None."""
+    rows = text.split("\n") if text != "" else []
+    expected = "first"
+    for number, row in enumerate(rows):
+        words = row.split(" ")
+        if expected == "first" and FIRST.fullmatch(row):
+            expected, documents = ("edit", []) if words[0] == "do" else ("last", None)
+        elif expected in ("edit", "edit or last") and is_edit_row(row, documents):
+            expected = "edit or last"
+            documents.append(words[1])
+        elif expected in ("last", "edit or last") and LAST.fullmatch(row) and words[1:] == sorted(set(words[1:])):
+            expected = "first"
+        else:
+            return number
+    return None if expected == "first" else len(rows)
+
+
+# Logs in another order.
+
+def can_exchange(log, at):
+    return not set(log[at][2]) & set(log[at + 1][2])
+
+
+def exchanged(log, at):
+    return log[:at] + (log[at + 1], log[at]) + log[at + 2:]
+
+
+def stirred(source, log, times=300):
+    """Return a log after many drawn exchanges."""
+    for at in source.choices(range(len(log) - 1), k=times) if len(log) > 1 else ():
+        if can_exchange(log, at):
+            log = exchanged(log, at)
+    return log

@@ -7,10 +7,8 @@ import unittest
 
 from crossundo.cuts import cuts_of, independent, is_cut, presses_to, redo_set, undo_set
 from crossundo.errors import NothingToRedo, NothingToUndo, TooMany
-from tests.samples import CHAIN, DOCUMENTS, all_small_heaps, cuts_by_definition, is_plain, many_heaps, no_names
-from tests.samples import normal_by_definition, other_kinds, pairs_below, random_heap, told
-
-NAMES = tuple(first + second for first in "abcdefgh" for second in "abcdefgh")
+from tests.samples import ACTIONS, CHAIN, DOCUMENTS, all_small_heaps, chains, cuts_by_definition, is_plain, many_heaps
+from tests.samples import no_names, normal_by_definition, other_kinds, pairs_below, random_heap, told
 
 
 def small_heaps():
@@ -47,12 +45,6 @@ def after(heap, cut, press):
         return names, tuple(name for name in cut if name not in names)
     names = redo_set(heap, cut, document)
     return names, tuple(sorted(cut + names))
-
-
-def chains(*lengths):
-    """Return a heap with a list of this length in each of several documents."""
-    names = iter(NAMES)
-    return tuple((next(names), (document,)) for document, length in zip(DOCUMENTS, lengths) for _ in range(length))
 
 
 class IsCutTest(unittest.TestCase):
@@ -283,11 +275,11 @@ class CutsOfTest(unittest.TestCase):
             self.assertEqual(vars(caught.exception), {"limit": 2000})
 
     def test_forty_unrelated_actions_are_soon_refused(self):
-        heap = tuple((name, (name,)) for name in NAMES[:40])
+        heap = tuple((name, (name,)) for name in ACTIONS[:40])
         start = time.process_time()
         self.assertEqual(told(cuts_of, heap), ("TooMany", 2000))
         self.assertEqual(told(cuts_of, heap[::-1]), ("TooMany", 2000))
-        late = chains(29) + tuple((name, (name,)) for name in NAMES[50:61])
+        late = chains(29) + tuple((name, (name,)) for name in ACTIONS[50:61])
         self.assertEqual(told(cuts_of, late), ("TooMany", 2000))
         self.assertLess(time.process_time() - start, 10)
 

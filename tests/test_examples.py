@@ -241,6 +241,49 @@ EXAMPLES = {
     >>> show_log((('open', ('a', 'one'), ('a',)), ('do', ('x', (('a', 0, 'one', 'two'),)), ('a',))))
     'open a one\\nat a\\ndo x\\nedit a 0 3 onetwo\\nat a'
 """],
+    26: ["""
+    >>> from crossundo.workspace import Workspace
+    >>> w = Workspace()
+    >>> w.open_document('a', 'one')
+    >>> w.open_document('b', 'two')
+    >>> w.open_document('c', 'six')
+    >>> w.do('x', (('a', 0, 'one', 'ONE'), ('b', 0, 'two', 'TWO')))
+    >>> w.undo('a')
+    >>> from crossundo.recovery import journals_of
+    >>> from crossundo.losses import loss, shows_loss
+    >>> a, b, c = journals_of(w)
+    >>> cut_off = (a, (b[0], b[1][:2]), c)
+    >>> (shows_loss(cut_off, 'a', 2, (('a', 2), ('b', 2))), loss(cut_off, 'a', 1))
+    (True, None)
+"""],
+    28: ["""
+    >>> from crossundo.shell import Shell
+    >>> s = Shell()
+    >>> s.run('open a one')
+    >>> s.run('do x\\nedit a 0 3 onetwo')
+    >>> s.run('undo a')
+    >>> s.run('list a')
+    '- | x'
+"""],
+    29: ["""
+    >>> from crossundo.routes import shortest
+    >>> heap = (('x', ('a', 'b')), ('y', ('b', 'c')), ('z', ('c',)))
+    >>> shortest(heap, ('x', 'y', 'z'), ())
+    (('undo', 'a'),)
+"""],
+    30: ["""
+    >>> from crossundo.merging import merge, past
+    >>> base = (('open', ('a', ''), ('a',)), ('open', ('b', ''), ('b',)))
+    >>> one = base + (('save', 'a', ('a',)),)
+    >>> other = base + (('save', 'b', ('b',)),)
+    >>> (past(one, other), merge(one, other)[2:])
+    ((('a', 1), ('b', 1)), (('save', 'a', ('a',)), ('save', 'b', ('b',))))
+""", """
+    >>> from crossundo.merging import merge
+    >>> base = (('open', ('a', ''), ('a',)),)
+    >>> merge(base + (('save', 'a', ('a',)),), base + (('close', 'a', ('a',)),))
+    raises Conflict(document='a')
+"""],
 }
 
 

@@ -7,19 +7,11 @@ import unittest
 from crossundo.logs import alike, difference, exchanges
 from crossundo.recovery import journals_of
 from crossundo.replaying import replay
-from tests.samples import BUSY, drawn_workspace, is_plain
+from tests.samples import BUSY, can_exchange, drawn_workspace, exchanged, is_plain, stirred
 
 POOL = tuple((kind, "a", footprint) for kind, footprint in (
     ("save", ("a",)), ("save", ("b",)), ("undo", ("a", "b")), ("redo", ("b", "c")), ("close", ("c",)),
     ("forget", ("a", "c")), ("undo", ("d",)), ("restore", ("a", "b", "d"))))
-
-
-def can_exchange(log, at):
-    return not set(log[at][2]) & set(log[at + 1][2])
-
-
-def exchanged(log, at):
-    return log[:at] + (log[at + 1], log[at]) + log[at + 2:]
 
 
 def reachable(log):
@@ -33,14 +25,6 @@ def reachable(log):
                 found.add(exchanged(now, at))
                 waiting.append(exchanged(now, at))
     return found
-
-
-def stirred(source, log, times=300):
-    """Return a log after many drawn exchanges."""
-    for at in source.choices(range(len(log) - 1), k=times) if len(log) > 1 else ():
-        if can_exchange(log, at):
-            log = exchanged(log, at)
-    return log
 
 
 def difference_by_definition(log, other):

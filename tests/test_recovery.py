@@ -9,90 +9,10 @@ from crossundo.errors import BadJournals
 from crossundo.recovery import is_journals, journals_of, kept, recover
 from crossundo.replaying import replay
 from crossundo.workspace import Workspace
-from tests.samples import BUSY, DOCUMENTS, KINDS, anything, beginnings, bent, cut_off, doc_workspace, drawn_calls
-from tests.samples import drawn_workspace, everything, half_undone, is_journals_by_definition, is_plain
-from tests.samples import journals_by_definition, kept_by_definition, kept_journals, mark, number_of_first_bad, told
-
-CIRCLE = (("a", ((("undo", "a", ("a", "b")), (("a", 0), ("b", 1))), (("redo", "b", ("a", "b")), (("a", 1), ("b", 0))))),
-          ("b", ((("redo", "b", ("a", "b")), (("a", 1), ("b", 0))), (("undo", "a", ("a", "b")), (("a", 0), ("b", 1))))))
-
-
-def workspaces(count=12):
-    """Return workspaces after drawn calls, some of them with many undone actions."""
-    return ([drawn_workspace(seed, 25 + seed % 3 * 15, 3 + seed % 4) for seed in range(count)]
-            + [half_undone(seed, 25) for seed in range(count // 3)])
-
-
-def some_journals(count=12):
-    return [journals_of(workspace) for workspace in workspaces(count)]
-
-
-def replaced_row(source, journals):
-    """Return journals in which one row, in one document only, is another one that has the form."""
-    full = [at for at, (_, rows) in enumerate(journals) if rows]
-    at = source.choice(full)
-    document, rows = journals[at]
-    number = source.randrange(len(rows))
-    (kind, argument, footprint), places = rows[number]
-    if source.random() < 0.5:
-        other = "redo" if kind != "redo" else "undo"
-        row = ((other, document, footprint), places)
-    elif len(places) > 1 and source.random() < 0.7:
-        # A place of another document points elsewhere.
-        moved = source.choice([place for place in places if place[0] != document])
-        elsewhere = (moved[0], source.choice((0, moved[1] + 1, max(0, moved[1] - 1), 99)))
-        row = ((kind, argument, footprint), tuple(elsewhere if place == moved else place for place in places))
-    else:
-        wider = tuple(sorted({*footprint, source.choice(DOCUMENTS)}))
-        numbers = dict(places)
-        row = ((kind, argument, wider), tuple((other, numbers.get(other, source.randint(0, 3))) for other in wider))
-    changed = rows[:number] + (row,) + rows[number + 1:]
-    return journals[:at] + ((document, changed),) + journals[at + 1:]
-
-
-def without_one(source, journals):
-    """Return journals that lack one document's."""
-    at = source.randrange(len(journals))
-    return journals[:at] + journals[at + 1:]
-
-
-def damaged(source, journals):
-    """Return journals that are cut off, have another row, or lack a document; all of it may happen."""
-    if source.random() < 0.7:
-        journals = cut_off(source, journals, source.choice((0.2, 0.5, 0.9)))
-    while source.random() < 0.4 and any(rows for _, rows in journals):
-        journals = replaced_row(source, journals)
-    while source.random() < 0.2 and len(journals) > 1:
-        journals = without_one(source, journals)
-    return journals
-
-
-def stirred_journals(source):
-    """Return journals of events that stand in each document in an order of its own, often in circles."""
-    documents = "abcd"[:source.randint(2, 4)]
-    events = []
-    for number in range(source.randint(1, 7)):
-        footprint = tuple(sorted(source.sample(documents, source.choice((1, 1, 2, 2, 3)[:len(documents) + 1]))))
-        events.append((source.choice(KINDS[2:]), "abcdefgh"[number], footprint))
-    orders = {document: [event for event in events if document in event[2]] for document in documents}
-    for document in documents:
-        if source.random() < 0.6:
-            source.shuffle(orders[document])
-    def row(event):
-        return event, tuple((document, orders[document].index(event)) for document in event[2])
-    return tuple((document, tuple(row(event) for event in orders[document])) for document in documents)
-
-
-def all_damaged(count=300):
-    """Return journals of many kinds, all of the form."""
-    found = [(), CIRCLE, (("a", ()),), (("a", ()), ("b", ()))]
-    whole = [journals for journals in some_journals() if journals]
-    for seed in range(count):
-        source = random.Random(seed)
-        found.append(damaged(source, whole[seed % len(whole)]))
-        found.append(stirred_journals(source))
-        found.append(damaged(source, stirred_journals(source)))
-    return found
+from tests.samples import BUSY, CIRCLE, DOCUMENTS, KINDS, all_damaged, anything, beginnings, bent, cut_off
+from tests.samples import doc_workspace, drawn_calls, drawn_workspace, everything, is_journals_by_definition, is_plain
+from tests.samples import journals_by_definition, kept_by_definition, kept_journals, mark, number_of_first_bad
+from tests.samples import some_journals, told, workspaces
 
 
 def in_some_order(journals):

@@ -2,12 +2,11 @@
 
 import copy
 import random
-import re
 import unittest
 
 from crossundo.errors import BadText
 from crossundo.texts import is_event, read_log, show_log
-from tests.samples import BUSY, CONTENT, KINDS, NAME, Hostile, anything, bent, drawn_workspace, half_undone
+from tests.samples import BUSY, KINDS, Hostile, anything, bad_row, bent, drawn_workspace, half_undone
 from tests.samples import is_event_by_definition, is_plain, mark, told
 
 EVENTS = (
@@ -25,37 +24,6 @@ EVENTS = (
     ("close", "a", ("a", "b", "c", "d", "e", "f", "g", "h")),
     ("forget", "a", ("z",)),
 )
-NUMBER = "0|[1-9][0-9]{0,2}"
-FIRST = re.compile(f"open {NAME} {CONTENT}|(do|undo|redo|take_back|restore|save|close|forget) {NAME}")
-EDIT = re.compile(f"edit ({NAME}) ({NUMBER}) ({NUMBER}) ([ -$&-~]*)")
-LAST = re.compile(f"at(?: {NAME})+")
-
-
-def is_edit_row(row, documents):
-    """Return whether a row can stand behind `do` and edit rows of these documents."""
-    found = EDIT.fullmatch(row)
-    if not found or len(documents) == 4 or documents and documents[-1] >= found[1]:
-        return False
-    count = int(found[3])
-    return count <= min(len(found[4]), 400) and len(found[4]) - count <= 400
-
-
-def bad_row(text):
-    """Return the number of the first row that cannot stand there or is missing, by the words of point [27]; or None."""
-    rows = text.split("\n") if text != "" else []
-    expected = "first"
-    for number, row in enumerate(rows):
-        words = row.split(" ")
-        if expected == "first" and FIRST.fullmatch(row):
-            expected, documents = ("edit", []) if words[0] == "do" else ("last", None)
-        elif expected in ("edit", "edit or last") and is_edit_row(row, documents):
-            expected = "edit or last"
-            documents.append(words[1])
-        elif expected in ("last", "edit or last") and LAST.fullmatch(row) and words[1:] == sorted(set(words[1:])):
-            expected = "first"
-        else:
-            return number
-    return None if expected == "first" else len(rows)
 
 
 def logs():
